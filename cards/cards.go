@@ -8,11 +8,16 @@ import (
 	"gameroom/api"
 )
 
+// Is: may a number stand for a card?
+func Is(card int) bool {
+	return card >= 0 && card < api.Cards
+}
+
 // Fault looks at all cards for the one fault before it tells of the other.
 func Fault(l []int) api.Errno {
 	var times [api.Cards]int
 	for _, card := range l {
-		if card < 0 || card >= api.Cards {
+		if !Is(card) {
 			return api.ErrRange
 		}
 		times[card]++

@@ -9,6 +9,17 @@ import (
 	"gameroom/cards"
 )
 
+func TestIs(t *testing.T) {
+	for _, c := range []struct {
+		card int
+		want bool
+	}{{math.MinInt, false}, {-1, false}, {0, true}, {51, true}, {52, false}, {math.MaxInt, false}} {
+		if ok := cards.Is(c.card); ok != c.want {
+			t.Errorf("Is(%d) = %v", c.card, ok)
+		}
+	}
+}
+
 func TestFault(t *testing.T) {
 	all := make([]int, api.Cards)
 	for i := range all {
