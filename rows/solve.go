@@ -1,0 +1,126 @@
+package rows
+
+import (
+	"slices"
+
+	"gameroom/api"
+)
+
+// What comes of a game, as its mover sees it.
+const (
+	loss = -1
+	draw = 0
+	win  = 1
+)
+
+// signs at the places that were empty at first: all that changes in a game. They tell the mover, too.
+type signs [api.MaxOpen]int
+
+// game on a board of its own, at which nobody has a row yet.
+type game struct {
+	board api.Grid
+	k     int
+	open  []int         // the places that were empty at first
+	known map[signs]int // what comes of boards that were met: many rows of moves lead to the same one
+}
+
+// Solve a game.
+func Solve(g api.Grid, k int) (int, []int, api.Errno) {
+	if e := fault(g, k); e != api.OK {
+		return 0, nil, e
+	}
+	mover := moverOf(g)
+	if mover == nobody {
+		return 0, nil, api.ErrTurn
+	}
+	open := emptyPlaces(g)
+	if len(open) > api.MaxOpen {
+		return 0, nil, api.ErrSize
+	}
+	switch winner, _, _ := Won(g, k); winner {
+	case nobody:
+		g.Cells = slices.Clone(g.Cells)
+		p := game{board: g, k: k, open: open, known: map[signs]int{}}
+		value, places := p.best(mover)
+		return value, places, api.OK
+	case mover:
+		return win, nil, api.OK
+	}
+	return loss, nil, api.OK
+}
+
+// moverOf a board: nobody, where the players cannot have put their signs by turns.
+func moverOf(g api.Grid) int {
+	var times [3]int
+	for _, sign := range g.Cells {
+		times[sign]++
+	}
+	switch times[first] - times[second] {
+	case 0:
+		return first
+	case 1:
+		return second
+	}
+	return nobody
+}
+
+func theOther(player int) int { return first + second - player }
+
+func emptyPlaces(g api.Grid) []int {
+	var l []int
+	for place, sign := range g.Cells {
+		if sign == nobody {
+			l = append(l, place)
+		}
+	}
+	return l
+}
+
+// best that the mover can reach, and all places with which it does.
+func (p *game) best(mover int) (int, []int) {
+	value := draw
+	var places []int
+	for _, place := range p.open {
+		if p.board.Cells[place] != nobody {
+			continue
+		}
+		v := p.valueOf(place, mover)
+		if len(places) == 0 || v > value {
+			value, places = v, nil
+		}
+		if v == value {
+			places = append(places, place)
+		}
+	}
+	return value, places
+}
+
+// valueOf a place for the mover, who puts a sign there and takes it back.
+func (p *game) valueOf(place, mover int) int {
+	p.board.Cells[place] = mover
+	value := win
+	if !inRow(p.board, place, p.k) {
+		value = -p.value(theOther(mover))
+	}
+	p.board.Cells[place] = nobody
+	return value
+}
+
+// value of the board for the mover.
+func (p *game) value(mover int) int {
+	laid := p.laid()
+	if value, ok := p.known[laid]; ok {
+		return value
+	}
+	value, _ := p.best(mover)
+	p.known[laid] = value
+	return value
+}
+
+func (p *game) laid() signs {
+	var l signs
+	for i, place := range p.open {
+		l[i] = p.board.Cells[place]
+	}
+	return l
+}
