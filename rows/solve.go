@@ -4,6 +4,7 @@ import (
 	"slices"
 
 	"gameroom/api"
+	"gameroom/grids"
 )
 
 // What comes of a game, as its mover sees it.
@@ -29,8 +30,8 @@ func Solve(g api.Grid, k int) (int, []int, api.Errno) {
 	if e := fault(g, k); e != api.OK {
 		return 0, nil, e
 	}
-	mover := moverOf(g)
-	if mover == nobody {
+	mover := grids.Mover(g)
+	if mover == grids.Nobody {
 		return 0, nil, api.ErrTurn
 	}
 	open := emptyPlaces(g)
@@ -38,7 +39,7 @@ func Solve(g api.Grid, k int) (int, []int, api.Errno) {
 		return 0, nil, api.ErrSize
 	}
 	switch winner, _, _ := Won(g, k); winner {
-	case nobody:
+	case grids.Nobody:
 		g.Cells = slices.Clone(g.Cells)
 		p := game{board: g, k: k, open: open, known: map[signs]int{}}
 		value, places := p.best(mover)
@@ -49,27 +50,10 @@ func Solve(g api.Grid, k int) (int, []int, api.Errno) {
 	return loss, nil, api.OK
 }
 
-// moverOf a board: nobody, where the players cannot have put their signs by turns.
-func moverOf(g api.Grid) int {
-	var times [3]int
-	for _, sign := range g.Cells {
-		times[sign]++
-	}
-	switch times[first] - times[second] {
-	case 0:
-		return first
-	case 1:
-		return second
-	}
-	return nobody
-}
-
-func theOther(player int) int { return first + second - player }
-
 func emptyPlaces(g api.Grid) []int {
 	var l []int
 	for place, sign := range g.Cells {
-		if sign == nobody {
+		if sign == grids.Nobody {
 			l = append(l, place)
 		}
 	}
@@ -81,7 +65,7 @@ func (p *game) best(mover int) (int, []int) {
 	value := draw
 	var places []int
 	for _, place := range p.open {
-		if p.board.Cells[place] != nobody {
+		if p.board.Cells[place] != grids.Nobody {
 			continue
 		}
 		v := p.valueOf(place, mover)
@@ -99,10 +83,10 @@ func (p *game) best(mover int) (int, []int) {
 func (p *game) valueOf(place, mover int) int {
 	p.board.Cells[place] = mover
 	value := win
-	if !inRow(p.board, place, p.k) {
-		value = -p.value(theOther(mover))
+	if !grids.InRow(p.board, place, p.k) {
+		value = -p.value(grids.Other(mover))
 	}
-	p.board.Cells[place] = nobody
+	p.board.Cells[place] = grids.Nobody
 	return value
 }
 

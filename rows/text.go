@@ -5,6 +5,7 @@ import (
 	"strings"
 
 	"gameroom/api"
+	"gameroom/grids"
 )
 
 // Read a board.
@@ -69,20 +70,20 @@ func rowOf(line string) ([]int, bool) {
 func signOf(letter rune) (int, bool) {
 	switch letter {
 	case '.':
-		return nobody, true
+		return grids.Nobody, true
 	case 'X', '×':
-		return first, true
+		return grids.First, true
 	case 'O', '○':
-		return second, true
+		return grids.Second, true
 	}
-	return nobody, false
+	return grids.Nobody, false
 }
 
 func letterOf(sign int) rune {
 	switch sign {
-	case first:
+	case grids.First:
 		return 'X'
-	case second:
+	case grids.Second:
 		return 'O'
 	}
 	return '.'

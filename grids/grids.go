@@ -1,0 +1,71 @@
+// Package grids: what several games on boards ask of them. Boards that are handed in may be (rows.May).
+package grids
+
+import (
+	"iter"
+
+	"gameroom/api"
+)
+
+// As bits, the two players make 3: what is told of both.
+const (
+	Nobody = iota
+	First
+	Second
+)
+
+// directions that rows have; their opposites would only find the same rows again.
+var directions = [4][2]int{{1, 0}, {0, 1}, {1, 1}, {-1, 1}}
+
+// IsLength: may a board be so wide or high, or a row so long?
+func IsLength(n int) bool { return n >= 1 && n <= api.MaxWide }
+
+// Other of the two players.
+func Other(player int) int { return First + Second - player }
+
+// Mover of a board: nobody, where the players cannot have put their signs by turns.
+func Mover(g api.Grid) int {
+	var times [3]int
+	for _, sign := range g.Cells {
+		times[sign]++
+	}
+	switch times[First] - times[Second] {
+	case 0:
+		return First
+	case 1:
+		return Second
+	}
+	return Nobody
+}
+
+// InRow: does the sign of a place stand in a row of k?
+func InRow(g api.Grid, place, k int) bool {
+	for _, d := range directions {
+		if 1+alikeAlong(g, place, d[0], d[1])+alikeAlong(g, place, -d[0], -d[1]) >= k {
+			return true
+		}
+	}
+	return false
+}
+
+// alikeAlong counts the signs beside a place that are like its own, up to the first one that is not.
+func alikeAlong(g api.Grid, place, right, down int) int {
+	n := 0
+	for other := range along(g, place, right, down) {
+		if g.Cells[other] != g.Cells[place] {
+			break
+		}
+		n++
+	}
+	return n
+}
+
+// along yields the places behind a place, step by step to the border.
+func along(g api.Grid, place, right, down int) iter.Seq[int] {
+	return func(yield func(int) bool) {
+		x, y := place%g.W+right, place/g.W+down
+		for x >= 0 && x < g.W && y >= 0 && y < g.H && yield(y*g.W+x) {
+			x, y = x+right, y+down
+		}
+	}
+}
