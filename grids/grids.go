@@ -20,6 +20,9 @@ var directions = [4][2]int{{1, 0}, {0, 1}, {1, 1}, {-1, 1}}
 // IsLength: may a board be so wide or high, or a row so long?
 func IsLength(n int) bool { return n >= 1 && n <= api.MaxWide }
 
+// IsPlayer: is it one of the two players?
+func IsPlayer(who int) bool { return who == First || who == Second }
+
 // Other of the two players.
 func Other(player int) int { return First + Second - player }
 

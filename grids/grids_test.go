@@ -21,6 +21,17 @@ func TestIsLength(t *testing.T) {
 	}
 }
 
+func TestIsPlayer(t *testing.T) {
+	for _, c := range []struct {
+		who  int
+		want bool
+	}{{math.MinInt, false}, {-1, false}, {0, false}, {1, true}, {2, true}, {3, false}, {math.MaxInt, false}} {
+		if ok := grids.IsPlayer(c.who); ok != c.want {
+			t.Errorf("IsPlayer(%d) = %v", c.who, ok)
+		}
+	}
+}
+
 func TestOther(t *testing.T) {
 	if a, b := grids.Other(grids.First), grids.Other(grids.Second); a != grids.Second || b != grids.First {
 		t.Errorf("others: %d, %d", a, b)
