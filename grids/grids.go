@@ -17,6 +17,9 @@ const (
 // directions that rows have; their opposites would only find the same rows again.
 var directions = [4][2]int{{1, 0}, {0, 1}, {1, 1}, {-1, 1}}
 
+// Signs at the places of a board that were empty when its game was first looked at: all that changes in it. They tell the mover, too.
+type Signs [api.MaxOpen]int
+
 // IsLength: may a board be so wide or high, or a row so long?
 func IsLength(n int) bool { return n >= 1 && n <= api.MaxWide }
 
@@ -39,6 +42,26 @@ func Mover(g api.Grid) int {
 		return Second
 	}
 	return Nobody
+}
+
+// Empty places of a board, rising.
+func Empty(g api.Grid) []int {
+	var l []int
+	for place, sign := range g.Cells {
+		if sign == Nobody {
+			l = append(l, place)
+		}
+	}
+	return l
+}
+
+// SignsAt so many places of a board as are played out at the most.
+func SignsAt(g api.Grid, places []int) Signs {
+	var l Signs
+	for i, place := range places {
+		l[i] = g.Cells[place]
+	}
+	return l
 }
 
 // InRow: does the sign of a place stand in a row of k?

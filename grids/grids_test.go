@@ -2,6 +2,7 @@ package grids_test
 
 import (
 	"math"
+	"slices"
 	"testing"
 
 	"gameroom/api"
@@ -55,6 +56,40 @@ func TestMover(t *testing.T) {
 	} {
 		if who := grids.Mover(c.g); who != c.want {
 			t.Errorf("Mover(%v) = %d; want %d", c.g, who, c.want)
+		}
+	}
+}
+
+func TestEmpty(t *testing.T) {
+	for _, c := range []struct {
+		g    api.Grid
+		want []int
+	}{
+		{line(0), []int{0}},
+		{line(1, 2), nil},
+		{line(0, 2, 0, 1, 0), []int{0, 2, 4}},
+		{line(1, 0, 0, 2), []int{1, 2}},
+		{api.Grid{W: 2, H: 2, Cells: []int{1, 0, 0, 2}}, []int{1, 2}},
+	} {
+		if l := grids.Empty(c.g); !slices.Equal(l, c.want) {
+			t.Errorf("Empty(%v) = %v; want %v", c.g, l, c.want)
+		}
+	}
+}
+
+func TestSignsAt(t *testing.T) {
+	g := line(2, 1, 0, 2, 1, 0, 0, 1, 2, 2)
+	for _, c := range []struct {
+		places []int
+		want   grids.Signs
+	}{
+		{nil, grids.Signs{}},
+		{[]int{1}, grids.Signs{1}},
+		{[]int{2, 3, 4}, grids.Signs{0, 2, 1}},
+		{[]int{1, 2, 3, 4, 5, 6, 7, 8, 9}, grids.Signs{1, 0, 2, 1, 0, 0, 1, 2, 2}},
+	} {
+		if l := grids.SignsAt(g, c.places); l != c.want {
+			t.Errorf("SignsAt(%v) = %v; want %v", c.places, l, c.want)
 		}
 	}
 }

@@ -14,15 +14,12 @@ const (
 	win  = 1
 )
 
-// signs at the places that were empty at first: all that changes in a game. They tell the mover, too.
-type signs [api.MaxOpen]int
-
 // game on a board of its own, at which nobody has a row yet.
 type game struct {
 	board api.Grid
 	k     int
-	open  []int         // the places that were empty at first
-	known map[signs]int // what comes of boards that were met: many rows of moves lead to the same one
+	open  []int               // the places that were empty at first
+	known map[grids.Signs]int // what comes of boards that were met: many rows of moves lead to the same one
 }
 
 // Solve a game.
@@ -34,30 +31,20 @@ func Solve(g api.Grid, k int) (int, []int, api.Errno) {
 	if mover == grids.Nobody {
 		return 0, nil, api.ErrTurn
 	}
-	open := emptyPlaces(g)
+	open := grids.Empty(g)
 	if len(open) > api.MaxOpen {
 		return 0, nil, api.ErrSize
 	}
 	switch winner, _, _ := Won(g, k); winner {
 	case grids.Nobody:
 		g.Cells = slices.Clone(g.Cells)
-		p := game{board: g, k: k, open: open, known: map[signs]int{}}
+		p := game{board: g, k: k, open: open, known: map[grids.Signs]int{}}
 		value, places := p.best(mover)
 		return value, places, api.OK
 	case mover:
 		return win, nil, api.OK
 	}
 	return loss, nil, api.OK
-}
-
-func emptyPlaces(g api.Grid) []int {
-	var l []int
-	for place, sign := range g.Cells {
-		if sign == grids.Nobody {
-			l = append(l, place)
-		}
-	}
-	return l
 }
 
 // best that the mover can reach, and all places with which it does.
@@ -92,19 +79,11 @@ func (p *game) valueOf(place, mover int) int {
 
 // value of the board for the mover.
 func (p *game) value(mover int) int {
-	laid := p.laid()
+	laid := grids.SignsAt(p.board, p.open)
 	if value, ok := p.known[laid]; ok {
 		return value
 	}
 	value, _ := p.best(mover)
 	p.known[laid] = value
 	return value
-}
-
-func (p *game) laid() signs {
-	var l signs
-	for i, place := range p.open {
-		l[i] = p.board.Cells[place]
-	}
-	return l
 }
