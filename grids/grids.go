@@ -3,9 +3,13 @@ package grids
 
 import (
 	"iter"
+	"slices"
 
 	"gameroom/api"
 )
+
+// MostPlaces that a board has.
+const MostPlaces = api.MaxWide * api.MaxWide
 
 // As bits, the two players make 3: what is told of both.
 const (
@@ -64,6 +68,57 @@ func SignsAt(g api.Grid, places []int) Signs {
 	return l
 }
 
+// IsPlace of a board?
+func IsPlace(g api.Grid, at int) bool { return at >= 0 && at < len(g.Cells) }
+
+// Beside yields the places beside a place, in such directions (right and down).
+func Beside(g api.Grid, place int, directions ...[2]int) iter.Seq[int] {
+	return func(yield func(int) bool) {
+		for _, d := range directions {
+			x, y := place%g.W+d[0], place/g.W+d[1]
+			if inside(g, x, y) && !yield(y*g.W+x) {
+				return
+			}
+		}
+	}
+}
+
+// Spread from a place over those beside it, as far as may be: the places that are reached, the first one too, rising.
+func Spread(g api.Grid, from int, may func(place int) bool, directions ...[2]int) []int {
+	reached := []int{from}
+	var met [MostPlaces]bool
+	met[from] = true
+	for i := 0; i < len(reached); i++ {
+		for next := range Beside(g, reached[i], directions...) {
+			if !met[next] && may(next) {
+				met[next] = true
+				reached = append(reached, next)
+			}
+		}
+	}
+	slices.Sort(reached)
+	return reached
+}
+
+// Regions of a board: places that may be spread over, those that come to one another together, by their least places.
+func Regions(g api.Grid, may func(place int) bool, directions ...[2]int) iter.Seq[[]int] {
+	return func(yield func([]int) bool) {
+		var told [MostPlaces]bool
+		for place := range g.Cells {
+			if told[place] || !may(place) {
+				continue
+			}
+			region := Spread(g, place, may, directions...)
+			for _, member := range region {
+				told[member] = true
+			}
+			if !yield(region) {
+				return
+			}
+		}
+	}
+}
+
 // InRow: does the sign of a place stand in a row of k?
 func InRow(g api.Grid, place, k int) bool {
 	for _, d := range directions {
@@ -90,8 +145,10 @@ func alikeAlong(g api.Grid, place, right, down int) int {
 func along(g api.Grid, place, right, down int) iter.Seq[int] {
 	return func(yield func(int) bool) {
 		x, y := place%g.W+right, place/g.W+down
-		for x >= 0 && x < g.W && y >= 0 && y < g.H && yield(y*g.W+x) {
+		for inside(g, x, y) && yield(y*g.W+x) {
 			x, y = x+right, y+down
 		}
 	}
 }
+
+func inside(g api.Grid, x, y int) bool { return x >= 0 && x < g.W && y >= 0 && y < g.H }

@@ -94,6 +94,112 @@ func TestSignsAt(t *testing.T) {
 	}
 }
 
+func TestIsPlace(t *testing.T) {
+	g := api.Grid{W: 3, H: 2, Cells: make([]int, 6)}
+	for _, c := range []struct {
+		at   int
+		want bool
+	}{{math.MinInt, false}, {-1, false}, {0, true}, {5, true}, {6, false}, {math.MaxInt, false}} {
+		if ok := grids.IsPlace(g, c.at); ok != c.want {
+			t.Errorf("IsPlace(%d) = %v", c.at, ok)
+		}
+	}
+}
+
+func TestBeside(t *testing.T) {
+	g := api.Grid{W: 3, H: 3, Cells: make([]int, 9)}
+	upRight, left, below := [2]int{1, -1}, [2]int{-1, 0}, [2]int{0, 1}
+	for _, c := range []struct {
+		place      int
+		directions [][2]int
+		want       []int
+	}{
+		{4, nil, nil},
+		{4, [][2]int{upRight, left, below}, []int{2, 3, 7}},
+		{4, [][2]int{below, left}, []int{7, 3}},
+		{0, [][2]int{upRight, left, below}, []int{3}},
+		{3, [][2]int{left}, nil},
+		{5, [][2]int{upRight}, nil},
+		{8, [][2]int{below}, nil},
+		{8, [][2]int{upRight, left, below}, []int{7}},
+	} {
+		if l := slices.Collect(grids.Beside(g, c.place, c.directions...)); !slices.Equal(l, c.want) {
+			t.Errorf("Beside(%d, %v) = %v; want %v", c.place, c.directions, l, c.want)
+		}
+	}
+	for place := range grids.Beside(g, 4, upRight, left, below) {
+		if place != 2 {
+			t.Errorf("goes on though nothing more is asked for: %d", place)
+		}
+		break
+	}
+}
+
+func TestSpread(t *testing.T) {
+	g := api.Grid{W: 4, H: 3, Cells: []int{
+		0, 1, 0, 0,
+		0, 1, 0, 1,
+		0, 0, 1, 0,
+	}}
+	empty := func(place int) bool { return g.Cells[place] == 0 }
+	everywhere := func(int) bool { return true }
+	nowhere := func(int) bool { return false }
+	right, left, down, up := [2]int{1, 0}, [2]int{-1, 0}, [2]int{0, 1}, [2]int{0, -1}
+	for _, c := range []struct {
+		what       string
+		from       int
+		may        func(int) bool
+		directions [][2]int
+		want       []int
+	}{
+		{"a region", 9, empty, [][2]int{right, left, down, up}, []int{0, 4, 8, 9}},
+		{"not slanting", 6, empty, [][2]int{right, left, down, up}, []int{2, 3, 6}},
+		{"alone", 11, empty, [][2]int{right, left, down, up}, []int{11}},
+		{"up alone", 8, empty, [][2]int{up}, []int{0, 4, 8}},
+		{"everywhere", 5, everywhere, [][2]int{right, left, down, up}, []int{0, 1, 2, 3, 4, 5, 6, 7, 8, 9, 10, 11}},
+		{"everywhere to the right and down", 5, everywhere, [][2]int{right, down}, []int{5, 6, 7, 9, 10, 11}},
+		{"nowhere but where it begins", 5, nowhere, [][2]int{right, left, down, up}, []int{5}},
+		{"in no direction", 5, everywhere, nil, []int{5}},
+	} {
+		if l := grids.Spread(g, c.from, c.may, c.directions...); !slices.Equal(l, c.want) {
+			t.Errorf("%s: %v; want %v", c.what, l, c.want)
+		}
+	}
+	full := api.Grid{W: 10, H: 10, Cells: make([]int, grids.MostPlaces)}
+	if l := grids.Spread(full, 55, everywhere, right, left, down, up); len(l) != 100 || l[0] != 0 || l[99] != 99 {
+		t.Errorf("the greatest board: %v", l)
+	}
+}
+
+func TestRegions(t *testing.T) {
+	g := api.Grid{W: 4, H: 3, Cells: []int{
+		1, 0, 2, 0,
+		0, 0, 0, 1,
+		1, 1, 0, 0,
+	}}
+	sides := [][2]int{{1, 0}, {-1, 0}, {0, 1}, {0, -1}}
+	of := func(sign int) func(int) bool { return func(place int) bool { return g.Cells[place] == sign } }
+	for _, c := range []struct {
+		may  func(int) bool
+		want [][]int
+	}{
+		{of(0), [][]int{{1, 4, 5, 6, 10, 11}, {3}}},
+		{of(1), [][]int{{0}, {7}, {8, 9}}},
+		{of(2), [][]int{{2}}},
+		{of(3), nil},
+	} {
+		if l := slices.Collect(grids.Regions(g, c.may, sides...)); !slices.EqualFunc(l, c.want, slices.Equal) {
+			t.Errorf("%v; want %v", l, c.want)
+		}
+	}
+	for region := range grids.Regions(g, of(1), sides...) {
+		if region[0] != 0 {
+			t.Errorf("goes on though nothing more is asked for: %v", region)
+		}
+		break
+	}
+}
+
 func TestInRow(t *testing.T) {
 	g := api.Grid{W: 4, H: 4, Cells: []int{
 		1, 1, 1, 2,

@@ -8,26 +8,16 @@ import (
 	"gameroom/grids"
 )
 
-const (
-	mostPlaces = api.MaxWide * api.MaxWide
-	tooMany    = mostPlaces + 1 // signs: no way needs so many
-)
-
-// directions of the six neighbours: right and down.
-var directions = [6][2]int{{0, -1}, {1, -1}, {-1, 0}, {1, 0}, {-1, 1}, {0, 1}}
+const tooMany = grids.MostPlaces + 1 // signs: no way needs so many
 
 // board with as many rows as columns.
 type board struct{ api.Grid }
 
+// around: directions of the six neighbours, right and down.
+func around() [][2]int { return [][2]int{{0, -1}, {1, -1}, {-1, 0}, {1, 0}, {-1, 1}, {0, 1}} }
+
 func (b board) neighbours(place int) iter.Seq[int] {
-	return func(yield func(int) bool) {
-		for _, d := range directions {
-			x, y := place%b.W+d[0], place/b.W+d[1]
-			if x >= 0 && x < b.W && y >= 0 && y < b.H && !yield(y*b.W+x) {
-				return
-			}
-		}
-	}
+	return grids.Beside(b.Grid, place, around()...)
 }
 
 // line of a place, counted from the player's first side: row or column.
@@ -44,38 +34,17 @@ func (b board) atLastSide(place, who int) bool { return b.line(place, who) == b.
 
 // groups yields a player's groups, by their least places.
 func (b board) groups(who int) iter.Seq[[]int] {
-	return func(yield func([]int) bool) {
-		var told [mostPlaces]bool
-		for place, sign := range b.Cells {
-			if sign != who || told[place] {
-				continue
-			}
-			group := b.group(place)
-			for _, member := range group {
-				told[member] = true
-			}
-			if !yield(group) {
-				return
-			}
-		}
-	}
+	return grids.Regions(b.Grid, b.has(who), around()...)
 }
 
 // group of the sign at a place, rising.
 func (b board) group(place int) []int {
-	group := []int{place}
-	var met [mostPlaces]bool
-	met[place] = true
-	for i := 0; i < len(group); i++ {
-		for next := range b.neighbours(group[i]) {
-			if !met[next] && b.Cells[next] == b.Cells[place] {
-				met[next] = true
-				group = append(group, next)
-			}
-		}
-	}
-	slices.Sort(group)
-	return group
+	return grids.Spread(b.Grid, place, b.has(b.Cells[place]), around()...)
+}
+
+// has: at which places does a sign stand?
+func (b board) has(sign int) func(place int) bool {
+	return func(place int) bool { return b.Cells[place] == sign }
 }
 
 // joins: does a group of a player come from side to side?
