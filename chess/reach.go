@@ -1,0 +1,96 @@
+package chess
+
+import (
+	"iter"
+	"slices"
+
+	"gameroom/api"
+)
+
+// steps of pieces, right and up. Each kind of piece has a stretch of them.
+var steps = [16][2]int{
+	{1, 0}, {0, 1}, {-1, 0}, {0, -1},
+	{1, 1}, {-1, 1}, {1, -1}, {-1, -1},
+	{1, 2}, {2, 1}, {2, -1}, {1, -2}, {-1, -2}, {-2, -1}, {-2, 1}, {-1, 2},
+}
+
+// Where in steps those of a kind begin.
+const (
+	straight  = 0
+	slanting  = 4
+	upwards   = slanting // as white's pawns go
+	downwards = 6
+	leaps     = 8
+	endSteps  = 16
+)
+
+// stretch of the steps of a piece.
+func stretch(piece int) (begin, end int) {
+	switch piece {
+	case api.Pawn:
+		return upwards, downwards
+	case -api.Pawn:
+		return downwards, leaps
+	}
+	switch kindOf(piece) {
+	case api.Knight:
+		return leaps, endSteps
+	case api.Bishop:
+		return slanting, leaps
+	case api.Rook:
+		return straight, slanting
+	}
+	return straight, leaps
+}
+
+// goesFar: does a piece step on as long as nothing is in the way?
+func goesFar(piece int) bool {
+	kind := kindOf(piece)
+	return kind == api.Bishop || kind == api.Rook || kind == api.Queen
+}
+
+// reach yields the places that a piece attacks from a place.
+func reach(piece, from int, empty func(place int) bool) iter.Seq[int] {
+	return func(yield func(int) bool) {
+		begin, end := stretch(piece)
+		for i := begin; i < end; i++ {
+			right, up := steps[i][0], steps[i][1]
+			for file, rank := from%wide+right, from/wide+up; inside(file, rank); file, rank = file+right, rank+up {
+				to := rank*wide + file
+				if !yield(to) {
+					return
+				}
+				if !goesFar(piece) || !empty(to) {
+					break
+				}
+			}
+		}
+	}
+}
+
+func inside(file, rank int) bool { return file >= 0 && file < wide && rank >= 0 && rank < wide }
+
+// attackers yields the places from which a side attacks a place, in no order.
+func attackers(l []int, at, by int) iter.Seq[int] {
+	empty := func(place int) bool { return l[place] == 0 }
+	return func(yield func(int) bool) {
+		for kind := api.Pawn; kind <= api.King; kind++ {
+			piece := pieceOf(by, kind)
+			// A piece attacks a place just if the other side's piece of its kind would attack it from there.
+			for from := range reach(-piece, at, empty) {
+				if l[from] == piece && !yield(from) {
+					return
+				}
+			}
+		}
+	}
+}
+
+// inCheck: is the king of a side attacked?
+func inCheck(l []int, side int) bool {
+	king := slices.Index(l, pieceOf(side, api.King))
+	for range attackers(l, king, other(side)) {
+		return true
+	}
+	return false
+}

@@ -1,0 +1,207 @@
+package chess
+
+import (
+	"strconv"
+	"strings"
+
+	"gameroom/api"
+)
+
+// Signs of pieces, in the order of their kinds.
+const (
+	whiteLetters  = "PNBRQK"
+	blackLetters  = "pnbrqk"
+	whitePictures = "♙♘♗♖♕♔"
+	blackPictures = "♟♞♝♜♛♚"
+)
+
+// Each in the order of the numbers that they tell.
+const (
+	sideLetters   = "wb"
+	castleLetters = "KQkq"
+	fileLetters   = "abcdefgh"
+	rankDigits    = "12345678"
+)
+
+const (
+	betweenWords = " "
+	betweenRanks = "/"
+	noneSign     = "-"
+	wordsInText  = 6
+)
+
+// shown: a position that may be, as a text.
+func shown(p api.Chess) string {
+	words := [wordsInText]string{
+		placesText(p.Places),
+		sideLetters[p.Turn : p.Turn+1],
+		castleText(p.Castle),
+		placeText(p.EnPassant),
+		strconv.Itoa(p.Half),
+		strconv.Itoa(p.Full),
+	}
+	return strings.Join(words[:], betweenWords)
+}
+
+// read a text of that form, whether such a position may be or not.
+func read(text string) (api.Chess, bool) {
+	words := strings.SplitN(text, betweenWords, wordsInText+1)
+	if len(words) != wordsInText {
+		return api.Chess{}, false
+	}
+	l, okPlaces := readPlaces(words[0])
+	turn, okTurn := readSide(words[1])
+	castle, okCastle := readCastle(words[2])
+	passed, okPassed := readPlace(words[3])
+	half, okHalf := readNumber(words[4])
+	full, okFull := readNumber(words[5])
+	p := api.Chess{Places: l, Turn: turn, Castle: castle, EnPassant: passed, Half: half, Full: full}
+	return p, okPlaces && okTurn && okCastle && okPassed && okHalf && okFull
+}
+
+// placesText: the ranks from the eighth down.
+func placesText(l []int) string {
+	var texts [wide]string
+	for rank := range wide {
+		texts[wide-1-rank] = rankText(l[rank*wide : (rank+1)*wide])
+	}
+	return strings.Join(texts[:], betweenRanks)
+}
+
+func readPlaces(word string) ([]int, bool) {
+	texts := strings.SplitN(word, betweenRanks, wide+1)
+	if len(texts) != wide {
+		return nil, false
+	}
+	l := make([]int, places)
+	for i, text := range texts {
+		pieces, ok := readRank(text)
+		if !ok {
+			return nil, false
+		}
+		copy(l[(wide-1-i)*wide:], pieces[:])
+	}
+	return l, true
+}
+
+func rankText(pieces []int) string {
+	var text strings.Builder
+	gap := 0
+	endGap := func() {
+		if gap > 0 {
+			text.WriteString(strconv.Itoa(gap))
+		}
+		gap = 0
+	}
+	for _, piece := range pieces {
+		if piece == 0 {
+			gap++
+			continue
+		}
+		endGap()
+		text.WriteRune(letterOf(piece))
+	}
+	endGap()
+	return text.String()
+}
+
+func readRank(text string) ([wide]int, bool) {
+	var pieces [wide]int
+	file := 0
+	for _, sign := range text {
+		piece, long := toldBy(sign)
+		if long == 0 || file+long > wide {
+			return pieces, false
+		}
+		pieces[file] = piece
+		file += long
+	}
+	return pieces, file == wide
+}
+
+// toldBy a sign of a rank: a piece, or a gap, and how many places it takes: none, if there is no such sign.
+func toldBy(sign rune) (piece, long int) {
+	if gap := strings.IndexRune(rankDigits, sign) + 1; gap > 0 {
+		return 0, gap
+	}
+	if piece = pieceBy(sign); piece != 0 {
+		return piece, 1
+	}
+	return 0, 0
+}
+
+// letterOf a piece.
+func letterOf(piece int) rune {
+	if piece > 0 {
+		return rune(whiteLetters[piece-1])
+	}
+	return rune(blackLetters[-piece-1])
+}
+
+// pieceBy a letter or picture; 0: there is none.
+func pieceBy(sign rune) int {
+	return kindAmong(sign, whiteLetters, whitePictures) - kindAmong(sign, blackLetters, blackPictures)
+}
+
+// kindAmong: which kind a sign tells in one of these texts, or 0.
+func kindAmong(sign rune, texts ...string) int {
+	for _, text := range texts {
+		kind := 0
+		for _, s := range text {
+			kind++
+			if s == sign {
+				return kind
+			}
+		}
+	}
+	return 0
+}
+
+func readSide(word string) (int, bool) {
+	side := strings.Index(sideLetters, word)
+	return side, side >= 0 && len(word) == 1
+}
+
+func castleText(rights int) string {
+	var text strings.Builder
+	for i := range len(castleLetters) {
+		if rights&(1<<i) != 0 {
+			text.WriteByte(castleLetters[i])
+		}
+	}
+	if text.Len() == 0 {
+		return noneSign
+	}
+	return text.String()
+}
+
+func readCastle(word string) (int, bool) {
+	for rights := range allRights + 1 {
+		if castleText(rights) == word {
+			return rights, true
+		}
+	}
+	return 0, false
+}
+
+func placeText(place int) string {
+	if place == nowhere {
+		return noneSign
+	}
+	return string(fileLetters[place%wide]) + string(rankDigits[place/wide])
+}
+
+func readPlace(word string) (int, bool) {
+	for place := nowhere; place < places; place++ {
+		if placeText(place) == word {
+			return place, true
+		}
+	}
+	return 0, false
+}
+
+// readNumber of one digit to three. Told again it is the same text, unless there was a sign or a 0 too many.
+func readNumber(word string) (int, bool) {
+	n, err := strconv.Atoi(word)
+	return n, err == nil && n >= 0 && n <= mostNumber && strconv.Itoa(n) == word
+}
