@@ -1,44 +1,20 @@
 package chess
 
-import "gameroom/api"
-
-const (
-	wide   = 8
-	places = wide * wide
+import (
+	"gameroom/api"
+	"gameroom/pieces"
 )
 
 const (
-	mostNumber = 999 // of half moves, and of moves
-	allRights  = 15  // to castle
-	nowhere    = -1  // no place for EnPassant
+	wide   = pieces.Wide
+	places = pieces.Places
 )
 
-// castlings, in the order of their rights: whose they are, and where the king and the rook stand at first.
-var castlings = [4]struct{ side, king, rook int }{
-	{api.White, 4, 7},
-	{api.White, 4, 0},
-	{api.Black, 60, 63},
-	{api.Black, 60, 56},
-}
+// allRights to castle.
+const allRights = 15
 
 // worth of each kind of piece; without its king nobody plays, so that it counts nothing.
 var worth = [1 + api.King]int{api.Pawn: 1, api.Knight: 3, api.Bishop: 3, api.Rook: 5, api.Queen: 9}
-
-func isSide(side int) bool { return side == api.White || side == api.Black }
-
-// other of the two sides.
-func other(side int) int { return api.White + api.Black - side }
-
-// pieceOf a side and a kind.
-func pieceOf(side, kind int) int {
-	if side == api.White {
-		return kind
-	}
-	return -kind
-}
-
-// kindOf a piece.
-func kindOf(piece int) int { return max(piece, -piece) }
 
 // mayStand: may pieces stand so, whatever else is told of the position?
 func mayStand(l []int) bool {
@@ -50,7 +26,7 @@ func mayStand(l []int) bool {
 		if piece < -api.King || piece > api.King {
 			return false
 		}
-		if kindOf(piece) == api.Pawn && (place < wide || place >= places-wide) {
+		if pieces.Kind(piece) == api.Pawn && (place < wide || place >= places-wide) {
 			return false
 		}
 		times[api.King+piece]++
@@ -63,11 +39,11 @@ func mayCastle(p api.Chess) bool {
 	if p.Castle < 0 || p.Castle > allRights {
 		return false
 	}
-	for i, c := range castlings {
+	for i, c := range pieces.Castlings() {
 		if p.Castle&(1<<i) == 0 {
 			continue
 		}
-		if p.Places[c.king] != pieceOf(c.side, api.King) || p.Places[c.rook] != pieceOf(c.side, api.Rook) {
+		if p.Places[c.King] != pieces.Of(c.Side, api.King) || p.Places[c.Rook] != pieces.Of(c.Side, api.Rook) {
 			return false
 		}
 	}
@@ -76,18 +52,18 @@ func mayCastle(p api.Chess) bool {
 
 // mayPass: can a pawn just have gone over EnPassant?
 func mayPass(p api.Chess) bool {
-	if p.EnPassant == nowhere {
+	if p.EnPassant == pieces.Nowhere {
 		return true
 	}
-	rank, up := 5, wide
+	rank, up := 5, pieces.Forward(p.Turn)
 	if p.Turn == api.Black {
-		rank, up = 2, -wide
+		rank = 2
 	}
 	if p.EnPassant/wide != rank {
 		return false
 	}
 	from, over, to := p.Places[p.EnPassant+up], p.Places[p.EnPassant], p.Places[p.EnPassant-up]
-	return from == 0 && over == 0 && to == pieceOf(other(p.Turn), api.Pawn)
+	return from == 0 && over == 0 && to == pieces.Of(pieces.Other(p.Turn), api.Pawn)
 }
 
 // lead of white's pieces over black's.
@@ -108,8 +84,9 @@ func tooLittle(l []int) bool {
 	var kinds [1 + api.King]int
 	var shades [2]int // of places with bishops
 	for place, piece := range l {
-		kinds[kindOf(piece)]++
-		if kindOf(piece) == api.Bishop {
+		kind := pieces.Kind(piece)
+		kinds[kind]++
+		if kind == api.Bishop {
 			shades[(place/wide+place%wide)%2]++
 		}
 	}

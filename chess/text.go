@@ -5,6 +5,7 @@ import (
 	"strings"
 
 	"gameroom/api"
+	"gameroom/pieces"
 )
 
 // Signs of pieces, in the order of their kinds.
@@ -75,16 +76,16 @@ func readPlaces(word string) ([]int, bool) {
 	}
 	l := make([]int, places)
 	for i, text := range texts {
-		pieces, ok := readRank(text)
+		row, ok := readRank(text)
 		if !ok {
 			return nil, false
 		}
-		copy(l[(wide-1-i)*wide:], pieces[:])
+		copy(l[(wide-1-i)*wide:], row[:])
 	}
 	return l, true
 }
 
-func rankText(pieces []int) string {
+func rankText(row []int) string {
 	var text strings.Builder
 	gap := 0
 	endGap := func() {
@@ -93,7 +94,7 @@ func rankText(pieces []int) string {
 		}
 		gap = 0
 	}
-	for _, piece := range pieces {
+	for _, piece := range row {
 		if piece == 0 {
 			gap++
 			continue
@@ -106,17 +107,17 @@ func rankText(pieces []int) string {
 }
 
 func readRank(text string) ([wide]int, bool) {
-	var pieces [wide]int
+	var row [wide]int
 	file := 0
 	for _, sign := range text {
 		piece, long := toldBy(sign)
 		if long == 0 || file+long > wide {
-			return pieces, false
+			return row, false
 		}
-		pieces[file] = piece
+		row[file] = piece
 		file += long
 	}
-	return pieces, file == wide
+	return row, file == wide
 }
 
 // toldBy a sign of a rank: a piece, or a gap, and how many places it takes: none, if there is no such sign.
@@ -185,14 +186,14 @@ func readCastle(word string) (int, bool) {
 }
 
 func placeText(place int) string {
-	if place == nowhere {
+	if place == pieces.Nowhere {
 		return noneSign
 	}
 	return string(fileLetters[place%wide]) + string(rankDigits[place/wide])
 }
 
 func readPlace(word string) (int, bool) {
-	for place := nowhere; place < places; place++ {
+	for place := pieces.Nowhere; place < places; place++ {
 		if placeText(place) == word {
 			return place, true
 		}
@@ -203,5 +204,5 @@ func readPlace(word string) (int, bool) {
 // readNumber of one digit to three. Told again it is the same text, unless there was a sign or a 0 too many.
 func readNumber(word string) (int, bool) {
 	n, err := strconv.Atoi(word)
-	return n, err == nil && n >= 0 && n <= mostNumber && strconv.Itoa(n) == word
+	return n, err == nil && n >= 0 && n <= pieces.MostNumber && strconv.Itoa(n) == word
 }

@@ -1,4 +1,4 @@
-package chess
+package pieces
 
 import (
 	"iter"
@@ -32,7 +32,7 @@ func stretch(piece int) (begin, end int) {
 	case -api.Pawn:
 		return downwards, leaps
 	}
-	switch kindOf(piece) {
+	switch Kind(piece) {
 	case api.Knight:
 		return leaps, endSteps
 	case api.Bishop:
@@ -45,18 +45,18 @@ func stretch(piece int) (begin, end int) {
 
 // goesFar: does a piece step on as long as nothing is in the way?
 func goesFar(piece int) bool {
-	kind := kindOf(piece)
+	kind := Kind(piece)
 	return kind == api.Bishop || kind == api.Rook || kind == api.Queen
 }
 
-// reach yields the places that a piece attacks from a place.
-func reach(piece, from int, empty func(place int) bool) iter.Seq[int] {
+// Reach yields the places that a piece attacks from a place, in no order.
+func Reach(piece, from int, empty func(place int) bool) iter.Seq[int] {
 	return func(yield func(int) bool) {
 		begin, end := stretch(piece)
 		for i := begin; i < end; i++ {
 			right, up := steps[i][0], steps[i][1]
-			for file, rank := from%wide+right, from/wide+up; inside(file, rank); file, rank = file+right, rank+up {
-				to := rank*wide + file
+			for file, rank := from%Wide+right, from/Wide+up; inside(file, rank); file, rank = file+right, rank+up {
+				to := rank*Wide + file
 				if !yield(to) {
 					return
 				}
@@ -68,16 +68,16 @@ func reach(piece, from int, empty func(place int) bool) iter.Seq[int] {
 	}
 }
 
-func inside(file, rank int) bool { return file >= 0 && file < wide && rank >= 0 && rank < wide }
+func inside(file, rank int) bool { return file >= 0 && file < Wide && rank >= 0 && rank < Wide }
 
-// attackers yields the places from which a side attacks a place, in no order.
-func attackers(l []int, at, by int) iter.Seq[int] {
+// Attackers yields the places from which a side attacks a place, in no order.
+func Attackers(l []int, at, by int) iter.Seq[int] {
 	empty := func(place int) bool { return l[place] == 0 }
 	return func(yield func(int) bool) {
 		for kind := api.Pawn; kind <= api.King; kind++ {
-			piece := pieceOf(by, kind)
+			piece := Of(by, kind)
 			// A piece attacks a place just if the other side's piece of its kind would attack it from there.
-			for from := range reach(-piece, at, empty) {
+			for from := range Reach(-piece, at, empty) {
 				if l[from] == piece && !yield(from) {
 					return
 				}
@@ -86,11 +86,16 @@ func attackers(l []int, at, by int) iter.Seq[int] {
 	}
 }
 
-// inCheck: is the king of a side attacked?
-func inCheck(l []int, side int) bool {
-	king := slices.Index(l, pieceOf(side, api.King))
-	for range attackers(l, king, other(side)) {
+// Attacked: does a side attack a place?
+func Attacked(l []int, at, by int) bool {
+	for range Attackers(l, at, by) {
 		return true
 	}
 	return false
+}
+
+// InCheck: is the king of a side, which has one, attacked?
+func InCheck(l []int, side int) bool {
+	king := slices.Index(l, Of(side, api.King))
+	return Attacked(l, king, Other(side))
 }
