@@ -8,20 +8,11 @@ import (
 	"gameroom/pieces"
 )
 
-// Signs of pieces, in the order of their kinds.
-const (
-	whiteLetters  = "PNBRQK"
-	blackLetters  = "pnbrqk"
-	whitePictures = "♙♘♗♖♕♔"
-	blackPictures = "♟♞♝♜♛♚"
-)
-
 // Each in the order of the numbers that they tell.
 const (
 	sideLetters   = "wb"
 	castleLetters = "KQkq"
-	fileLetters   = "abcdefgh"
-	rankDigits    = "12345678"
+	gapDigits     = "12345678" // from 1 on
 )
 
 const (
@@ -54,8 +45,8 @@ func read(text string) (api.Chess, bool) {
 	turn, okTurn := readSide(words[1])
 	castle, okCastle := readCastle(words[2])
 	passed, okPassed := readPlace(words[3])
-	half, okHalf := readNumber(words[4])
-	full, okFull := readNumber(words[5])
+	half, okHalf := pieces.ReadNumber(words[4])
+	full, okFull := pieces.ReadNumber(words[5])
 	p := api.Chess{Places: l, Turn: turn, Castle: castle, EnPassant: passed, Half: half, Full: full}
 	return p, okPlaces && okTurn && okCastle && okPassed && okHalf && okFull
 }
@@ -100,7 +91,7 @@ func rankText(row []int) string {
 			continue
 		}
 		endGap()
-		text.WriteRune(letterOf(piece))
+		text.WriteRune(pieces.Letter(piece))
 	}
 	endGap()
 	return text.String()
@@ -122,7 +113,7 @@ func readRank(text string) ([wide]int, bool) {
 
 // toldBy a sign of a rank: a piece, or a gap, and how many places it takes: none, if there is no such sign.
 func toldBy(sign rune) (piece, long int) {
-	if gap := strings.IndexRune(rankDigits, sign) + 1; gap > 0 {
+	if gap := strings.IndexRune(gapDigits, sign) + 1; gap > 0 {
 		return 0, gap
 	}
 	if piece = pieceBy(sign); piece != 0 {
@@ -131,31 +122,9 @@ func toldBy(sign rune) (piece, long int) {
 	return 0, 0
 }
 
-// letterOf a piece.
-func letterOf(piece int) rune {
-	if piece > 0 {
-		return rune(whiteLetters[piece-1])
-	}
-	return rune(blackLetters[-piece-1])
-}
-
 // pieceBy a letter or picture; 0: there is none.
 func pieceBy(sign rune) int {
-	return kindAmong(sign, whiteLetters, whitePictures) - kindAmong(sign, blackLetters, blackPictures)
-}
-
-// kindAmong: which kind a sign tells in one of these texts, or 0.
-func kindAmong(sign rune, texts ...string) int {
-	for _, text := range texts {
-		kind := 0
-		for _, s := range text {
-			kind++
-			if s == sign {
-				return kind
-			}
-		}
-	}
-	return 0
+	return pieces.ByLetter(sign) + pieces.ByPicture(sign)
 }
 
 func readSide(word string) (int, bool) {
@@ -189,7 +158,7 @@ func placeText(place int) string {
 	if place == pieces.Nowhere {
 		return noneSign
 	}
-	return string(fileLetters[place%wide]) + string(rankDigits[place/wide])
+	return pieces.PlaceText(place)
 }
 
 func readPlace(word string) (int, bool) {
@@ -199,10 +168,4 @@ func readPlace(word string) (int, bool) {
 		}
 	}
 	return 0, false
-}
-
-// readNumber of one digit to three. Told again it is the same text, unless there was a sign or a 0 too many.
-func readNumber(word string) (int, bool) {
-	n, err := strconv.Atoi(word)
-	return n, err == nil && n >= 0 && n <= pieces.MostNumber && strconv.Itoa(n) == word
 }
