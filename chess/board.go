@@ -13,9 +13,6 @@ const (
 // allRights to castle.
 const allRights = 15
 
-// worth of each kind of piece; without its king nobody plays, so that it counts nothing.
-var worth = [1 + api.King]int{api.Pawn: 1, api.Knight: 3, api.Bishop: 3, api.Rook: 5, api.Queen: 9}
-
 // mayStand: may pieces stand so, whatever else is told of the position?
 func mayStand(l []int) bool {
 	if len(l) != places {
@@ -64,19 +61,6 @@ func mayPass(p api.Chess) bool {
 	}
 	from, over, to := p.Places[p.EnPassant+up], p.Places[p.EnPassant], p.Places[p.EnPassant-up]
 	return from == 0 && over == 0 && to == pieces.Of(pieces.Other(p.Turn), api.Pawn)
-}
-
-// lead of white's pieces over black's.
-func lead(l []int) int {
-	sum := 0
-	for _, piece := range l {
-		if piece > 0 {
-			sum += worth[piece]
-		} else {
-			sum -= worth[-piece]
-		}
-	}
-	return sum
 }
 
 // tooLittle: do both sides lack what could ever give mate?

@@ -1,4 +1,4 @@
-package moves
+package positions
 
 import (
 	"iter"
