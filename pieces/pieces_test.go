@@ -133,6 +133,31 @@ func TestReach(t *testing.T) {
 	}
 }
 
+func TestReachOn(t *testing.T) {
+	for _, c := range []struct {
+		wide, piece, from, full int
+		want                    []int
+	}{
+		{3, api.King, 0, -1, []int{1, 3, 4}},
+		{3, api.King, 4, -1, []int{0, 1, 2, 3, 5, 6, 7, 8}},
+		{3, api.King, 5, -1, []int{1, 2, 4, 7, 8}},
+		{3, api.Rook, 2, -1, []int{0, 1, 5, 8}},
+		{3, api.Rook, 2, 1, []int{1, 5, 8}},
+		{3, api.Queen, 6, 4, []int{0, 3, 4, 7, 8}},
+		{4, api.Bishop, 5, 10, []int{0, 2, 8, 10}},
+		{4, api.Knight, 5, -1, []int{3, 11, 12, 14}},
+		{5, api.Rook, 12, 11, []int{2, 7, 11, 13, 14, 17, 22}},
+		{5, api.Queen, 20, 8, []int{0, 5, 8, 10, 12, 15, 16, 21, 22, 23, 24}},
+		{5, -api.Pawn, 9, -1, []int{3}},
+	} {
+		empty := func(place int) bool { return place != c.full }
+		reached := slices.Sorted(pieces.ReachOn(c.wide, c.piece, c.from, empty))
+		if !slices.Equal(reached, c.want) {
+			t.Errorf("ReachOn(%d, %d, %d), %d full: %v; want %v", c.wide, c.piece, c.from, c.full, reached, c.want)
+		}
+	}
+}
+
 func TestAttackers(t *testing.T) {
 	l := places("Kc5 ka8 Qh8 Rd8 Bg7 Nb3 Pc3 Pe3 rh4 ph2 pd2")
 	for _, c := range []struct {

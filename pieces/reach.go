@@ -51,12 +51,18 @@ func goesFar(piece int) bool {
 
 // Reach yields the places that a piece attacks from a place, in no order.
 func Reach(piece, from int, empty func(place int) bool) iter.Seq[int] {
+	return ReachOn(Wide, piece, from, empty)
+}
+
+// ReachOn yields them on a board of so many files and ranks.
+func ReachOn(wide, piece, from int, empty func(place int) bool) iter.Seq[int] {
 	return func(yield func(int) bool) {
 		begin, end := stretch(piece)
+		ownFile, ownRank := from%wide, from/wide
 		for i := begin; i < end; i++ {
 			right, up := steps[i][0], steps[i][1]
-			for file, rank := from%Wide+right, from/Wide+up; inside(file, rank); file, rank = file+right, rank+up {
-				to := rank*Wide + file
+			for file, rank := ownFile+right, ownRank+up; inside(wide, file, rank); file, rank = file+right, rank+up {
+				to := rank*wide + file
 				if !yield(to) {
 					return
 				}
@@ -68,7 +74,9 @@ func Reach(piece, from int, empty func(place int) bool) iter.Seq[int] {
 	}
 }
 
-func inside(file, rank int) bool { return file >= 0 && file < Wide && rank >= 0 && rank < Wide }
+func inside(wide, file, rank int) bool {
+	return file >= 0 && file < wide && rank >= 0 && rank < wide
+}
 
 // Attackers yields the places from which a side attacks a place, in no order.
 func Attackers(l []int, at, by int) iter.Seq[int] {
