@@ -1,4 +1,4 @@
-// Package grids: what several games on boards ask of them. Boards that are handed in may be (rows.May).
+// Package grids: what several games and puzzles on boards ask of them. Boards that are handed in may be (rows.May); where no sign is asked for, they may have other numbers.
 package grids
 
 import (
@@ -71,12 +71,20 @@ func SignsAt(g api.Grid, places []int) Signs {
 // IsPlace of a board?
 func IsPlace(g api.Grid, at int) bool { return at >= 0 && at < len(g.Cells) }
 
-// Beside yields the places beside a place, in such directions (right and down).
+// Step from a place in a direction (right and down): to which place, if the board has one there?
+func Step(g api.Grid, place int, direction [2]int) (int, bool) {
+	x, y := place%g.W+direction[0], place/g.W+direction[1]
+	if x < 0 || x >= g.W || y < 0 || y >= g.H {
+		return 0, false
+	}
+	return y*g.W + x, true
+}
+
+// Beside yields the places beside a place, in such directions.
 func Beside(g api.Grid, place int, directions ...[2]int) iter.Seq[int] {
 	return func(yield func(int) bool) {
 		for _, d := range directions {
-			x, y := place%g.W+d[0], place/g.W+d[1]
-			if inside(g, x, y) && !yield(y*g.W+x) {
+			if next, ok := Step(g, place, d); ok && !yield(next) {
 				return
 			}
 		}
@@ -122,7 +130,7 @@ func Regions(g api.Grid, may func(place int) bool, directions ...[2]int) iter.Se
 // InRow: does the sign of a place stand in a row of k?
 func InRow(g api.Grid, place, k int) bool {
 	for _, d := range directions {
-		if 1+alikeAlong(g, place, d[0], d[1])+alikeAlong(g, place, -d[0], -d[1]) >= k {
+		if 1+alikeAlong(g, place, d)+alikeAlong(g, place, [2]int{-d[0], -d[1]}) >= k {
 			return true
 		}
 	}
@@ -130,9 +138,9 @@ func InRow(g api.Grid, place, k int) bool {
 }
 
 // alikeAlong counts the signs beside a place that are like its own, up to the first one that is not.
-func alikeAlong(g api.Grid, place, right, down int) int {
+func alikeAlong(g api.Grid, place int, direction [2]int) int {
 	n := 0
-	for other := range along(g, place, right, down) {
+	for other := range along(g, place, direction) {
 		if g.Cells[other] != g.Cells[place] {
 			break
 		}
@@ -142,13 +150,11 @@ func alikeAlong(g api.Grid, place, right, down int) int {
 }
 
 // along yields the places behind a place, step by step to the border.
-func along(g api.Grid, place, right, down int) iter.Seq[int] {
+func along(g api.Grid, place int, direction [2]int) iter.Seq[int] {
 	return func(yield func(int) bool) {
-		x, y := place%g.W+right, place/g.W+down
-		for inside(g, x, y) && yield(y*g.W+x) {
-			x, y = x+right, y+down
+		next, ok := Step(g, place, direction)
+		for ok && yield(next) {
+			next, ok = Step(g, next, direction)
 		}
 	}
 }
-
-func inside(g api.Grid, x, y int) bool { return x >= 0 && x < g.W && y >= 0 && y < g.H }

@@ -106,6 +106,38 @@ func TestIsPlace(t *testing.T) {
 	}
 }
 
+func TestStep(t *testing.T) {
+	g := api.Grid{W: 4, H: 3, Cells: make([]int, 12)}
+	for _, c := range []struct {
+		place     int
+		direction [2]int
+		want      int
+		ok        bool
+	}{
+		{5, [2]int{1, 0}, 6, true},
+		{5, [2]int{-1, 0}, 4, true},
+		{5, [2]int{0, 1}, 9, true},
+		{5, [2]int{0, -1}, 1, true},
+		{5, [2]int{-1, 1}, 8, true},
+		{5, [2]int{2, 0}, 7, true},
+		{5, [2]int{2, -1}, 3, true},
+		{5, [2]int{0, 0}, 5, true},
+		{7, [2]int{1, 0}, 0, false},
+		{4, [2]int{-1, 0}, 0, false},
+		{9, [2]int{0, 1}, 0, false},
+		{2, [2]int{0, -1}, 0, false},
+		{5, [2]int{3, 0}, 0, false},
+		{5, [2]int{0, 2}, 0, false},
+		{5, [2]int{-2, 0}, 0, false},
+		{0, [2]int{-1, -1}, 0, false},
+		{11, [2]int{1, 1}, 0, false},
+	} {
+		if to, ok := grids.Step(g, c.place, c.direction); to != c.want || ok != c.ok {
+			t.Errorf("Step(%d, %v) = %d, %v; want %d, %v", c.place, c.direction, to, ok, c.want, c.ok)
+		}
+	}
+}
+
 func TestBeside(t *testing.T) {
 	g := api.Grid{W: 3, H: 3, Cells: make([]int, 9)}
 	upRight, left, below := [2]int{1, -1}, [2]int{-1, 0}, [2]int{0, 1}
